@@ -81,3 +81,18 @@ func TestNoOtherEffects(t *testing.T) {
 		}
 	}
 }
+
+// Each package that is built calls only those that the document's overview names; the tables and errors of api are there for all.
+func TestLayers(t *testing.T) {
+	calls := map[string]string{"lexer": "", "parser": "lexer", "printer": "", "resolve": "", "unify": ""}
+	for _, path := range sources(t) {
+		layer := filepath.Base(filepath.Dir(path))
+		below, built := calls[layer]
+		for _, name := range imports(t, path) {
+			other, own := strings.CutPrefix(name, "leasehold/")
+			if built && own && other != "api" && !slices.Contains(strings.Fields(below), other) {
+				t.Errorf("%s imports %s", path, name)
+			}
+		}
+	}
+}
