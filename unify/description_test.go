@@ -33,20 +33,6 @@ func over(n int, s string) bool {
 	return true
 }
 
-func nesting(s string) int {
-	open, most := 0, 0
-	for _, c := range s {
-		switch c {
-		case '(':
-			open++
-		case ')':
-			open--
-		}
-		most = max(most, open)
-	}
-	return most + 1
-}
-
 // isDone says whether a text has no solved variables.
 func isDone(s []string, x string) bool {
 	return !slices.ContainsFunc(variableText.FindAllString(x, -1), func(v string) bool { return s[number(v[1:])] != "_" })

@@ -8,23 +8,6 @@ import (
 	"leasehold/api"
 )
 
-// lists calls a function with each list of n of some types.
-func lists(n int, from []api.Type, f func([]api.Type)) {
-	l := make([]api.Type, n)
-	var choose func(i int)
-	choose = func(i int) {
-		if i == n {
-			f(slices.Clone(l))
-			return
-		}
-		for _, t := range from {
-			l[i] = t
-			choose(i + 1)
-		}
-	}
-	choose(0)
-}
-
 // P5.1, P5.3, P5.5: all substitutions of two and three variables, and all pairs of types, with few different types.
 func TestAllUnifications(t *testing.T) {
 	count := map[api.Errno]int{}
