@@ -35,7 +35,7 @@ func (n *inference) applied(t api.Type) api.Type {
 	return p.outside(unify.Apply(p.elements, p.inside(t)))
 }
 
-// unify extends the substitution so that two types become equal, or returns the error of unify.Unify.
+// unify extends the substitution so that two types become equal, or returns the error of unify.Unify. A variable of the part that is deep inside the types of others has as many boxes around it in one more element, so that it does not get a type with which those become too deep.
 func (n *inference) unify(a, b api.Type) api.Errno {
 	p := n.part(a, b)
 	for i, v := range p.variables {
