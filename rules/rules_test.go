@@ -84,7 +84,7 @@ func TestNoOtherEffects(t *testing.T) {
 
 // Each package that is built calls only those that the document's overview names; the tables and errors of api are there for all.
 func TestLayers(t *testing.T) {
-	calls := map[string]string{"lexer": "", "parser": "lexer", "printer": "", "resolve": "", "unify": "", "traits": "unify", "check": "resolve unify traits", "matching": "unify", "lift": ""}
+	calls := map[string]string{"lexer": "", "parser": "lexer", "printer": "", "resolve": "", "unify": "", "traits": "unify", "check": "resolve unify traits", "matching": "unify", "lift": "", "lower": ""}
 	for _, path := range sources(t) {
 		layer := filepath.Base(filepath.Dir(path))
 		below, built := calls[layer]
